@@ -153,8 +153,9 @@ func wantParents(l []api.Commit, own []api.ID, knows [][]bool, c api.Commit) boo
 	return c.Gen == 1+gen
 }
 
-func wantClosed(l []api.Commit) bool {
-	own := idsOf(l...)
+func wantClosed(l []api.Commit) bool { return wantClosedBy(l, idsOf(l...)) }
+
+func wantClosedBy(l []api.Commit, own []api.ID) bool {
 	for i, c := range l {
 		if !commit.May(c) || commit.Merge(c) || slices.Index(own, own[i]) != i {
 			return false
@@ -490,6 +491,86 @@ func TestNotClosed(t *testing.T) {
 			}
 			closedIs(t, false, append(slices.Clone(l), x)...)
 		}
+	}
+}
+
+// short are commits and their ids, of which but some bits are left, as Parents too.
+func short(l []api.Commit, bits byte) ([]api.Commit, []api.ID) {
+	l = clone(l)
+	left := map[api.ID]api.ID{}
+	var own []api.ID
+	for i, c := range l {
+		for j, p := range l[i].Parents {
+			l[i].Parents[j] = left[p]
+		}
+		slices.SortFunc(l[i].Parents, compare)
+		left[idOf(c)] = api.ID{31: idOf(c)[31] & bits}
+		own = append(own, left[idOf(c)])
+	}
+	return l, own
+}
+
+// P11.2: no two have one id, whatever their events are. Nobody knows two contents that have one, so that the ids are handed in here.
+func TestOneId(t *testing.T) {
+	a, b := of(0, 1, 1), of(1, 1, 1)
+	one, two, three := api.ID{31: 1}, api.ID{31: 2}, api.ID{31: 3}
+	behind := func(node, seq, gen int, parents ...api.ID) api.Commit {
+		return api.Commit{Ev: api.Event{Node: node, Seq: seq}, Gen: gen, Parents: parents, Op: inc(1)}
+	}
+	for i, x := range []struct {
+		l    []api.Commit
+		own  []api.ID
+		want bool
+	}{
+		{[]api.Commit{a, b}, []api.ID{one, two}, true},
+		{[]api.Commit{a, b}, []api.ID{one, one}, false},
+		{[]api.Commit{a, b, of(2, 1, 1)}, []api.ID{one, two, three}, true},
+		{[]api.Commit{a, b, of(2, 1, 1)}, []api.ID{one, two, one}, false},
+		{[]api.Commit{a, behind(0, 2, 2, one)}, []api.ID{one, two}, true},
+		{[]api.Commit{a, behind(0, 2, 2, one)}, []api.ID{one, one}, false},
+		{[]api.Commit{a, behind(1, 1, 2, one)}, []api.ID{one, one}, false},
+		{[]api.Commit{a, b, behind(0, 2, 2, one)}, []api.ID{one, two, three}, true},
+		{[]api.Commit{a, b, behind(0, 2, 2, one)}, []api.ID{one, two, two}, false},
+		{[]api.Commit{a, b, behind(0, 2, 2, one)}, []api.ID{one, one, two}, false},
+		{[]api.Commit{a, behind(0, 2, 2, one), behind(1, 1, 3, two)}, []api.ID{one, two, three}, true},
+		{[]api.Commit{a, behind(0, 2, 2, one), behind(1, 1, 3, two)}, []api.ID{one, two, one}, false},
+		{[]api.Commit{a, behind(0, 2, 2, one), behind(1, 1, 2, one)}, []api.ID{one, two, two}, false},
+	} {
+		for _, o := range orders([]int{0, 1, 2}[:len(x.l)]) {
+			var l []api.Commit
+			var own []api.ID
+			for _, k := range o {
+				l, own = append(l, x.l[k]), append(own, x.own[k])
+			}
+			if wantClosedBy(l, own) != x.want {
+				t.Fatalf("%d: the test itself is wrong", i)
+			}
+			if _, got := known(l, own); got != x.want {
+				t.Errorf("%d: %v, of ids %x: closed is %v", i, l, own, got)
+			}
+		}
+	}
+	to := chance(23)
+	count := map[bool]int{}
+	for n := range 3000 {
+		l, own := short(mess(1+to(7), 1+to(4), to), []byte{3, 15, 255}[n%3])
+		for _, c := range l {
+			if !commit.May(c) {
+				// It has no id at all.
+				own = nil
+			}
+		}
+		if own == nil {
+			continue
+		}
+		want := wantClosedBy(l, own)
+		if _, got := known(l, own); got != want {
+			t.Errorf("%v, of ids %x: closed is %v, want %v", l, own, got, want)
+		}
+		count[want]++
+	}
+	if count[true] < 300 || count[false] < 300 {
+		t.Errorf("only %v", count)
 	}
 }
 
